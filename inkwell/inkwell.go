@@ -66,7 +66,15 @@ func (c *Copy) Pending() int {
 }
 
 // Tick gives the copy's digest (P9).
-func (c *Copy) Tick() string { return "" }
+func (c *Copy) Tick() string {
+	c.mutex.Lock()
+	defer c.mutex.Unlock()
+	return c.state.Tick()
+}
 
 // Handle takes a datagram, and gives those that answer it (P10).
-func (c *Copy) Handle(datagram string) ([]string, api.Errno) { return nil, api.OK }
+func (c *Copy) Handle(datagram string) ([]string, api.Errno) {
+	c.mutex.Lock()
+	defer c.mutex.Unlock()
+	return c.state.Handle(datagram)
+}

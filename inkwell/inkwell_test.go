@@ -280,6 +280,9 @@ func calls(c *Copy) map[string]func() {
 		"Len":            func() { c.Len() },
 		"Clock":          func() { c.Clock() },
 		"Pending":        func() { c.Pending() },
+		"Tick":           func() { c.Tick() },
+		"Handle":         func() { c.Handle(framed("D\x02\x00\x00")) },
+		"Handle refused": func() { c.Handle("no frame") },
 	}
 }
 
@@ -325,6 +328,7 @@ func TestTogether(t *testing.T) {
 				c.Len()
 				c.Clock()
 				c.Pending()
+				c.Handle(c.Tick())
 			}
 		})
 	}

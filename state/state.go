@@ -5,6 +5,7 @@ import (
 	"unicode/utf8"
 
 	"inkwell/api"
+	"inkwell/frame"
 	"inkwell/line"
 	"inkwell/op"
 )
@@ -81,6 +82,35 @@ func (s *State) Clock() []int {
 
 // Pending is how many operations wait (P6).
 func (s *State) Pending() int { return len(s.pending) }
+
+// Tick is the copy's digest (P9).
+func (s *State) Tick() string { return frame.WriteDigest(s.copies, s.self, s.clock) }
+
+// Handle takes a datagram, and gives those that answer it (P10).
+func (s *State) Handle(datagram string) ([]string, api.Errno) {
+	f, is := frame.Read(s.copies, datagram)
+	if !is {
+		return nil, api.ErrFrame
+	}
+	switch f.Content {
+	case frame.Digest:
+		return frame.WriteBatches(s.copies, s.beyond(f.Clock)), api.OK
+	default:
+		// What a batch tells is not applied yet: it is as if it had been lost.
+		return nil, api.OK
+	}
+}
+
+// beyond gives the operations applied here that a clock does not count, the copies in order, of each by number.
+func (s *State) beyond(clock op.Clock) []op.Operation {
+	var list []op.Operation
+	for origin := 1; origin <= s.copies; origin++ {
+		for number := clock.Of(origin) + 1; number <= s.clock.Of(origin); number++ {
+			list = append(list, s.applied[op.Name{Origin: origin, Number: number}])
+		}
+	}
+	return list
+}
 
 // full tells whether the copy can make no operation more: it has no number or no counter left.
 func (s *State) full() bool {

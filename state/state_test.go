@@ -145,6 +145,7 @@ func TestAskingChangesNothing(t *testing.T) {
 	s.Len()
 	s.Clock()
 	s.Pending()
+	s.Tick()
 	if !reflect.DeepEqual(s, want) {
 		t.Errorf("P2: asking changed the copy")
 	}
