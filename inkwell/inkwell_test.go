@@ -282,6 +282,7 @@ func calls(c *Copy) map[string]func() {
 		"Pending":        func() { c.Pending() },
 		"Tick":           func() { c.Tick() },
 		"Handle":         func() { c.Handle(framed("D\x02\x00\x00")) },
+		"Handle batch":   func() { c.Handle(framed("B\x01" + euroBytes)) },
 		"Handle refused": func() { c.Handle("no frame") },
 	}
 }

@@ -25,6 +25,12 @@ func New() *Line {
 	return &Line{elements: map[op.Mark]element{op.Beginning(): {next: op.Beginning()}}}
 }
 
+// Has tells whether a mark is that of an element, deleted or not, or the beginning: an insert may have it as its target.
+func (l *Line) Has(mark op.Mark) bool {
+	_, found := l.elements[mark]
+	return found
+}
+
 // Lay puts a new element where all copies put it. The target must be in the line or the beginning, the mark must be new.
 func (l *Line) Lay(mark, target op.Mark, letter rune) {
 	ahead := target

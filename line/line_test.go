@@ -1,6 +1,7 @@
 package line
 
 import (
+	"math/rand"
 	"testing"
 
 	"inkwell/op"
@@ -78,6 +79,47 @@ func TestMarkAt(t *testing.T) {
 	for place, want := range map[int]op.Mark{0: a, 1: b, 2: op.Beginning(), -1: op.Beginning(), -1 << 63: op.Beginning(), 1<<63 - 1: op.Beginning()} {
 		if m := l.MarkAt(place); m != want {
 			t.Errorf("MarkAt(%d) = %v, want %v", place, m, want)
+		}
+	}
+}
+
+func TestHas(t *testing.T) {
+	a, b := op.Mark{Counter: 1, Copy: 1}, op.Mark{Counter: 2, Copy: 1}
+	l := of(laid{a, op.Beginning(), 'a'}, laid{b, a, 'b'})
+	l.Strike(a)
+	for mark, want := range map[op.Mark]bool{op.Beginning(): true, a: true, b: true, {Counter: 1, Copy: 2}: false, {Counter: 3, Copy: 1}: false, {Counter: 0, Copy: 1}: false} {
+		if got := l.Has(mark); got != want {
+			t.Errorf("P11: Has(%v) = %v", mark, got)
+		}
+	}
+	if l.Text() != "b" || len(l.elements) != 3 {
+		t.Errorf("asking changed the line: %q, %d", l.Text(), len(l.elements))
+	}
+}
+
+// TestAnyOrder: a target stands ahead of what is laid behind it; whatever else comes first, the line is the same.
+func TestAnyOrder(t *testing.T) {
+	r := rand.New(rand.NewSource(3))
+	for range 300 {
+		all := []laid{}
+		targets := []op.Mark{op.Beginning()}
+		for i := range 12 {
+			target := targets[r.Intn(len(targets))]
+			mark := op.Mark{Counter: target.Counter + 1 + int64(r.Intn(2)), Copy: i + 1}
+			all = append(all, laid{mark, target, rune('a' + i)})
+			targets = append(targets, mark)
+		}
+		want := of(all...).Text()
+		for range 10 {
+			l := New()
+			for tries := 0; l.Len() < len(all) && tries < 10000; tries++ {
+				if x := all[r.Intn(len(all))]; l.Has(x.target) && !l.Has(x.mark) {
+					l.Lay(x.mark, x.target, x.letter)
+				}
+			}
+			if l.Text() != want {
+				t.Fatalf("P12: %q and %q of %v", l.Text(), want, all)
+			}
 		}
 	}
 }

@@ -37,6 +37,16 @@ func (c *Clock) Of(number int) int { return c[number-1] }
 // Count takes one more operation of a copy (1 to MaxCopies) as known.
 func (c *Clock) Count(number int) { c[number-1]++ }
 
+// Covers tells whether of each copy at least as many operations are known as another clock counts.
+func (c *Clock) Covers(other Clock) bool {
+	for i, count := range other {
+		if c[i] < count {
+			return false
+		}
+	}
+	return true
+}
+
 // Name tells one operation from all others.
 type Name struct {
 	Origin, Number int

@@ -40,3 +40,22 @@ func TestClockCountsEachCopyAlone(t *testing.T) {
 		t.Errorf("Words: an earlier clock went on: %v", earlier)
 	}
 }
+
+func TestCovers(t *testing.T) {
+	c := Clock{3, 0, 1, 0, 0, 0, 0, 2}
+	for other, want := range map[Clock]bool{
+		{}:                       true,
+		c:                        true,
+		{2, 0, 1}:                true,
+		{0, 0, 0, 0, 0, 0, 0, 2}: true,
+		{4}:                      false,
+		{3, 1}:                   false,
+		{3, 0, 2}:                false,
+		{3, 0, 1, 0, 0, 0, 1, 2}: false,
+		{3, 0, 1, 0, 0, 0, 0, 3}: false,
+	} {
+		if got := c.Covers(other); got != want {
+			t.Errorf("P11: %v covers %v: %v", c, other, got)
+		}
+	}
+}

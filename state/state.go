@@ -95,10 +95,12 @@ func (s *State) Handle(datagram string) ([]string, api.Errno) {
 	switch f.Content {
 	case frame.Digest:
 		return frame.WriteBatches(s.copies, s.beyond(f.Clock)), api.OK
-	default:
-		// What a batch tells is not applied yet: it is as if it had been lost.
-		return nil, api.OK
+	case frame.Batch:
+		for _, o := range f.Operations {
+			s.take(o)
+		}
 	}
+	return nil, api.OK
 }
 
 // beyond gives the operations applied here that a clock does not count, the copies in order, of each by number.
